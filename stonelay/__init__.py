@@ -1,0 +1,1 @@
+"""Stonelay: stones that lie under cells."""
