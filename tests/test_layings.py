@@ -1,9 +1,9 @@
 """Points 8, 9 and 10, and of point 2 what is told of layings."""
 
 import itertools
-import random
 import unittest
 
+from byhand import layings_by_hand, small_boards
 from stonelay.boards import board_of
 from stonelay.errors import StoneError, TooGreat
 from stonelay.layings import is_laying, layings, why_none
@@ -11,48 +11,6 @@ from stonelay.layings import is_laying, layings, why_none
 # A small board: a 1 in the corner, a 2 in the middle, a place without a cell.
 ROWS = ["1?#", "?2?", "???"]
 HUGE = 10 ** 999
-
-
-def stones_beside(cell, stones):
-    return len([
-        stone for stone in stones
-        if max(abs(stone[0] - cell[0]), abs(stone[1] - cell[1])) == 1
-    ])
-
-
-def layings_by_hand(rows, stones):
-    """All layings straight from the words of point 8, for holding the program against."""
-    signs = {
-        (row, column): sign
-        for row, text in enumerate(rows) for column, sign in enumerate(text)
-    }
-    hidden = sorted(cell for cell, sign in signs.items() if sign == "?")
-    numbers = {cell: int(sign) for cell, sign in signs.items() if sign in "012345678"}
-    return [
-        list(pick) for pick in itertools.combinations(hidden, stones)
-        if all(stones_beside(cell, pick) == number for cell, number in numbers.items())
-    ]
-
-
-def some_boards():
-    """Rows and stones of many unlike small boards, the same ones in each run; most have a laying."""
-    dice = random.Random(7)
-    while True:
-        height = dice.randint(1, 4)
-        width = dice.randint(1, 5)
-        cells = [(row, column) for row in range(height) for column in range(width)]
-        signs = {cell: dice.choice("oo.....#") for cell in cells}
-        stones = [cell for cell in cells if signs[cell] == "o"]
-        for cell in cells:
-            if signs[cell] == "." and dice.random() < 0.5:
-                # Now and then a number that may not fit.
-                wrong = dice.random() < 0.03
-                signs[cell] = str(dice.randint(0, 3) if wrong else stones_beside(cell, stones))
-            elif signs[cell] != "#":
-                signs[cell] = "?"
-        if list(signs.values()).count("?") <= 12:
-            rows = ["".join(signs[(row, column)] for column in range(width)) for row in range(height)]
-            yield rows, max(0, len(stones) + dice.choice((0, 0, 0, 1, -1)))
 
 
 class IsLayingTest(unittest.TestCase):
@@ -297,7 +255,7 @@ class LayingsTest(unittest.TestCase):
 
     def test_many_boards_against_the_words(self):
         lengths = []
-        for rows, stones in itertools.islice(some_boards(), 500):
+        for rows, stones in small_boards(500):
             board = board_of(rows, stones)
             told = layings(board)
             self.assertEqual(told, layings_by_hand(rows, stones), (rows, stones))

@@ -1,0 +1,148 @@
+"""Answers straight from the words of the document, for holding the program against, and boards to ask of.
+
+Nothing here draws from the program, and nothing is done the way the program does it.
+"""
+
+import itertools
+import random
+
+
+def signs_of(rows):
+    """The signs of the rows by their places, those without a cell left out."""
+    return {
+        (row, column): sign
+        for row, text in enumerate(rows) for column, sign in enumerate(text) if sign != "#"
+    }
+
+
+def closed_by_hand(rows):
+    return sorted(cell for cell, sign in signs_of(rows).items() if sign == "?")
+
+
+def numbers_by_hand(rows):
+    """The numbers told, by the open cells."""
+    return {cell: int(sign) for cell, sign in sorted(signs_of(rows).items()) if sign != "?"}
+
+
+def beside(one, other):
+    return max(abs(one[0] - other[0]), abs(one[1] - other[1])) == 1
+
+
+def stones_beside(cell, stones):
+    return len([stone for stone in stones if beside(stone, cell)])
+
+
+def layings_by_hand(rows, stones):
+    """All layings (8), by going through all choices of so many closed cells."""
+    numbers = numbers_by_hand(rows)
+    return [
+        list(pick) for pick in itertools.combinations(closed_by_hand(rows), stones)
+        if all(stones_beside(cell, pick) == number for cell, number in numbers.items())
+    ]
+
+
+def parts_by_hand(rows):
+    """All parts (11): from each near cell all that are joined to it, again and again."""
+    hidden = closed_by_hand(rows)
+    told = numbers_by_hand(rows)
+
+    def are_joined(one, other):
+        return any(beside(one, cell) and beside(other, cell) for cell in told)
+
+    found = set()
+    for start in hidden:
+        if any(beside(start, cell) for cell in told):
+            reached = [start]
+            for cell in reached:
+                reached.extend(other for other in hidden if other not in reached and are_joined(cell, other))
+            found.add(tuple(sorted(reached)))
+    return [list(part) for part in sorted(found)]
+
+
+def far_by_hand(rows):
+    told = numbers_by_hand(rows)
+    return [cell for cell in closed_by_hand(rows) if not any(beside(cell, other) for other in told)]
+
+
+def numbers_of_part_by_hand(rows, part):
+    return [cell for cell in numbers_by_hand(rows) if any(beside(cell, other) for other in part)]
+
+
+def part_layings_by_hand(rows, part):
+    """All part layings (13), by going through all choices of cells of the part."""
+    numbers = numbers_by_hand(rows)
+    told = [(numbers[cell], cell) for cell in numbers_of_part_by_hand(rows, part)]
+    found = []
+    for size in range(len(part) + 1):
+        for pick in itertools.combinations(part, size):
+            if all(stones_beside(cell, pick) == number for number, cell in told):
+                found.append(list(pick))
+    return sorted(found)
+
+
+def count_by_hand(rows, stones, having=None):
+    """How many layings there are, or of them those that have a cell, without parts and far cells.
+
+    The closed cells are gone through one by one; what is kept is, by what each open cell still asks for
+    and how many stones are left, in how many ways it came to that.
+    """
+    numbers = numbers_by_hand(rows)
+    told = list(numbers)
+    hidden = closed_by_hand(rows)
+    ways = {(tuple(numbers.values()), stones): 1}
+    for place, cell in enumerate(hidden):
+        # What no later cell can give is to be given by now.
+        due = [not any(beside(open_cell, later) for later in hidden[place + 1:]) for open_cell in told]
+        grown = {}
+        for (asked, left), many in ways.items():
+            for lies in (0, 1):
+                if cell == having and not lies:
+                    continue
+                still = tuple(need - lies * beside(cell, other) for need, other in zip(asked, told))
+                fits = all(need >= 0 and not (late and need) for need, late in zip(still, due))
+                if fits and left >= lies:
+                    grown[(still, left - lies)] = grown.get((still, left - lies), 0) + many
+        ways = grown
+    return ways.get((tuple(0 for _ in told), 0), 0)
+
+
+def some_rows(dice, height, width, signs, opened, wrong):
+    """Rows of a board with stones laid by chance, and how many there are of these.
+
+    A part of the clear cells is opened; of the numbers told a part may not fit.
+    """
+    cells = [(row, column) for row in range(height) for column in range(width)]
+    laid = {cell: dice.choice(signs) for cell in cells}
+    stones = [cell for cell in cells if laid[cell] == "o"]
+    for cell in cells:
+        if laid[cell] == "." and dice.random() < opened:
+            odd = dice.random() < wrong
+            laid[cell] = str(dice.randint(0, 3) if odd else stones_beside(cell, stones))
+        elif laid[cell] != "#":
+            laid[cell] = "?"
+    return ["".join(laid[(row, column)] for column in range(width)) for row in range(height)], len(stones)
+
+
+def small_boards(many):
+    """Rows and stones of unlike boards with at most twelve closed cells, the same in each run."""
+    dice = random.Random(7)
+    found = []
+    while len(found) < many:
+        rows, stones = some_rows(dice, dice.randint(1, 4), dice.randint(1, 5), "oo.....#", 0.5, 0.03)
+        if len(closed_by_hand(rows)) <= 12:
+            found.append((rows, max(0, stones + dice.choice((0, 0, 0, 1, -1)))))
+    return found
+
+
+def great_boards(many):
+    """Rows and stones of unlike boards of up to 64 cells, no part with more than fourteen, the same in each run."""
+    dice = random.Random(11)
+    found = []
+    while len(found) < many:
+        signs = dice.choice(("oo......", "o....##", "oo.###", "oo..####", "ooo..."))
+        height, width = dice.randint(4, 8), dice.randint(4, 8)
+        rows, stones = some_rows(dice, height, width, signs, dice.choice((0.05, 0.1, 0.9)), 0.01)
+        pieces = parts_by_hand(rows)
+        if pieces and max(len(part) for part in pieces) <= 14:
+            found.append((rows, max(0, stones + dice.choice((0, 0, 0, 1, -1)))))
+    return found
