@@ -49,8 +49,7 @@ def part_counts(board, part):
 
 def part_counts_at(board, part, cell):
     """The counts of those layings of a part alone that have a cell of it, or a refusal with TooGreat."""
-    having = [laying for laying in part_layings(board, part) if cell in laying]
-    return counted(having, len(part))
+    return counted_at(part_layings(board, part), len(part), cell)
 
 
 def counted(found, greatest):
@@ -59,3 +58,8 @@ def counted(found, greatest):
     for laying in found:
         counts[len(laying)] += 1
     return counts
+
+
+def counted_at(found, greatest, cell):
+    """The same list, of those layings alone that have a cell."""
+    return counted([laying for laying in found if cell in laying], greatest)

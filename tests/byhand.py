@@ -146,3 +146,100 @@ def great_boards(many):
         if pieces and max(len(part) for part in pieces) <= 14:
             found.append((rows, max(0, stones + dice.choice((0, 0, 0, 1, -1)))))
     return found
+
+
+def choices_of(cells):
+    """All choices of these cells, each as a set."""
+    cells = list(cells)
+    return [set(pick) for size in range(len(cells) + 1) for pick in itertools.combinations(cells, size)]
+
+
+def thing_holds(rows, stones, thing, choice):
+    """Whether a thing told (21) holds in a choice of closed cells."""
+    if thing == "all":
+        return len(choice) == stones
+    return stones_beside(thing, choice) == numbers_by_hand(rows)[thing]
+
+
+def follows_by_hand(rows, stones, things, finding):
+    """What follows (22, 23), by going through all choices of closed cells, or None where none fits."""
+    hidden = closed_by_hand(rows)
+    clears, laid = set(finding[0]), set(finding[1])
+    fitting = [
+        choice for choice in choices_of(hidden)
+        if not clears & choice and laid <= choice
+        and all(thing_holds(rows, stones, thing, choice) for thing in things)
+    ]
+    if not fitting:
+        return None
+    unknown = [cell for cell in hidden if cell not in clears | laid]
+    return (
+        [cell for cell in unknown if not any(cell in choice for choice in fitting)],
+        [cell for cell in unknown if all(cell in choice for choice in fitting)],
+    )
+
+
+def thing_lists(rows):
+    """All lists of one thing and of two, in the order of 24."""
+    row = list(numbers_by_hand(rows)) + ["all"]
+    return [[thing] for thing in row] + [list(pair) for pair in itertools.combinations(row, 2)]
+
+
+def thoughts_by_hand(rows, stones):
+    """The thoughts (24) of a board that has a laying, each list asked anew at each step."""
+    steps = []
+    finding = ([], [])
+    going = True
+    while going:
+        going = False
+        for things in thing_lists(rows):
+            clears, laid = follows_by_hand(rows, stones, things, finding)
+            if clears or laid:
+                steps.append((things, clears, laid))
+                finding = (sorted(finding[0] + clears), sorted(finding[1] + laid))
+                going = True
+                break
+    return steps, finding
+
+
+def containers(value):
+    """All lists and dicts in what is told, itself too, as often as they stand there."""
+    found = [value] if isinstance(value, (list, dict)) else []
+    inner = []
+    if isinstance(value, dict):
+        inner = list(value) + list(value.values())
+    elif isinstance(value, (list, tuple)):
+        inner = list(value)
+    for part in inner:
+        found.extend(containers(part))
+    return found
+
+
+def some_fields(many, height, width, seed):
+    """Unlike fields with a clear cell at least, the same in each run."""
+    dice = random.Random(seed)
+    found = []
+    while len(found) < many:
+        signs = dice.choice(("o...", "o.....", "o.......", "oo....#", "o........#"))
+        rows, columns = dice.randint(1, height), dice.randint(1, width)
+        field = ["".join(dice.choice(signs) for _ in range(columns)) for _ in range(rows)]
+        if any("." in row for row in field):
+            found.append(field)
+    return found
+
+
+def cells_by_hand(field, sign):
+    return [cell for cell, other in sorted(signs_of(field).items()) if other == sign]
+
+
+def board_by_hand(field, cells):
+    """The rows and stones of the board of a field with these cells opened (26)."""
+    stones = cells_by_hand(field, "o")
+    rows = []
+    for row, text in enumerate(field):
+        signs = ["#" if sign == "#" else "?" for sign in text]
+        for column in range(len(signs)):
+            if (row, column) in cells:
+                signs[column] = str(stones_beside((row, column), stones))
+        rows.append("".join(signs))
+    return rows, len(stones)

@@ -18,6 +18,10 @@ FUNCTIONS = {
     },
     "pouring": {"choices": ["n", "k"], "poured": ["one", "other"]},
     "counts": {"near_counts": ["board"], "count": ["board"], "count_at": ["board", "cell"]},
+    "sure": {"share": ["board", "cell"], "shares": ["board"], "sure": ["board"], "witnesses": ["board", "cell"]},
+    "thinking": {"follows": ["board", "things", "finding"], "holds": ["board", "finding", "step"]},
+    "thoughts": {"thoughts": ["board"]},
+    "fields": {"field_of": ["rows"], "stones_of": ["field"], "board_at": ["field", "cells"]},
 }
 
 
