@@ -243,3 +243,62 @@ def board_by_hand(field, cells):
                 signs[column] = str(stones_beside((row, column), stones))
         rows.append("".join(signs))
     return rows, len(stones)
+
+
+def look_by_hand(rows, stones, way):
+    """The closed cells that one look at a small board finds to be clear (27, 28)."""
+    if way == "thoughts":
+        return thoughts_by_hand(rows, stones)[1][0]
+    found = layings_by_hand(rows, stones)
+    return [cell for cell in closed_by_hand(rows) if not any(cell in laying for laying in found)]
+
+
+def run_by_hand(field, first, way):
+    """A run (27, 28) on a small field."""
+    row = [first]
+    while True:
+        rows, stones = board_by_hand(field, row)
+        if set(row) == set(cells_by_hand(field, ".")):
+            return "end", row, (rows, stones)
+        found = look_by_hand(rows, stones, way)
+        if not found:
+            return "stuck", row, (rows, stones)
+        row = row + found
+
+
+def opened_by_hand(rows, cell, number):
+    """The rows with a number told at a closed cell."""
+    text = rows[cell[0]]
+    told = text[:cell[1]] + str(number) + text[cell[1] + 1:]
+    return rows[:cell[0]] + [told] + rows[cell[0] + 1:]
+
+
+def numbers_told_by_hand(found, cell):
+    """The numbers that a cell may tell, of the layings that haven't it."""
+    return sorted({stones_beside(cell, laying) for laying in found if cell not in laying})
+
+
+def through_by_hand(rows, stones, depth):
+    """How many layings come through so many openings at the best (30), each time on the board so opened."""
+    found = layings_by_hand(rows, stones)
+    hidden = closed_by_hand(rows)
+    if depth == 0 or all(cell in laying for cell in hidden for laying in found):
+        return len(found)
+    return max(through_at_by_hand(rows, stones, depth, cell) for cell in hidden)
+
+
+def through_at_by_hand(rows, stones, depth, cell):
+    """How many layings come through if this cell is opened first, the depth being from 1 on."""
+    numbers = numbers_told_by_hand(layings_by_hand(rows, stones), cell)
+    return sum(through_by_hand(opened_by_hand(rows, cell, number), stones, depth - 1) for number in numbers)
+
+
+def chance_boards(many):
+    """Rows and stones of unlike boards with at most seven closed cells and a laying, the same in each run."""
+    dice = random.Random(13)
+    found = []
+    while len(found) < many:
+        rows, stones = some_rows(dice, dice.randint(1, 3), dice.randint(1, 4), "oo.....#", 0.3, 0)
+        if len(closed_by_hand(rows)) <= 7 and layings_by_hand(rows, stones):
+            found.append((rows, stones))
+    return found

@@ -27,6 +27,11 @@ class RefusalsTest(unittest.TestCase):
             for stones in (0, 1, 64, -1, 65, 10 ** 999, -10 ** 999):
                 self.refused(NoBoard, rows, stones)
 
+    def test_every_sign_that_is_none(self):
+        for sign in map(chr, range(ord(" "), ord("~") + 1)):
+            if sign not in "?012345678#":
+                self.refused(NoBoard, ["?" + sign], 1)
+
     def test_stones_that_are_too_few_or_too_many(self):
         for rows in (["?"], ROWS, ["#"], ["?" * 8] * 8):
             for stones in (-1, 65, -64, 66, 1000, 10 ** 999, -10 ** 999):

@@ -18,7 +18,7 @@ class RefusalsTest(unittest.TestCase):
             [], ["."] * 9, [""], ["", ""], ["..", ""], ["." * 9], ["." * 9] * 2, [".."] * 9, ["..", "."], [".", ".."],
             ["..", "..", "..."], ["..", "." * 9], ["?"], [".?"], ["0"], [".0"], ["o8"], ["..", ".1"], ["O"], ["o*"],
             [". "], [" "], [".\n"], ["\n"], ["./."], ["-"], ["~"], ["9"], [",."],
-        ):
+        ) + tuple(["." + chr(sign)] for sign in range(ord(" "), ord("~") + 1) if chr(sign) not in ".o#"):
             with self.subTest(rows=rows):
                 with self.assertRaises(StoneError) as caught:
                     field_of(rows)

@@ -2,6 +2,7 @@
 
 import importlib
 import inspect
+import pathlib
 import unittest
 
 FUNCTIONS = {
@@ -22,7 +23,12 @@ FUNCTIONS = {
     "thinking": {"follows": ["board", "things", "finding"], "holds": ["board", "finding", "step"]},
     "thoughts": {"thoughts": ["board"]},
     "fields": {"field_of": ["rows"], "stones_of": ["field"], "board_at": ["field", "cells"]},
+    "runs": {"run": ["field", "first", "way"]},
+    "chances": {"chances": ["board", "depth"], "best": ["board", "depth"], "plan": ["board", "depth"]},
+    "texts": {"written": ["board"], "read": ["text"]},
 }
+# What may be left out, and what it is then.
+DEFAULTS = {("runs", "run", "way"): "sure"}
 
 
 class InterfaceTest(unittest.TestCase):
@@ -33,8 +39,19 @@ class InterfaceTest(unittest.TestCase):
                 with self.subTest(module=module_name, function=name):
                     told = inspect.signature(getattr(module, name)).parameters
                     self.assertEqual(list(told), arguments)
-                    for parameter in told.values():
-                        self.assertIs(parameter.default, inspect.Parameter.empty)
+                    for argument, parameter in told.items():
+                        default = DEFAULTS.get((module_name, name, argument), inspect.Parameter.empty)
+                        self.assertEqual(parameter.default, default)
+
+    def test_the_desk(self):
+        desk = importlib.import_module("stonelay.desk").Desk
+        self.assertTrue(inspect.isclass(desk))
+        self.assertEqual(list(inspect.signature(desk).parameters), [])
+        self.assertEqual(list(inspect.signature(desk().say).parameters), ["row"])
+
+    def test_every_module_is_asked_for(self):
+        names = {path.stem for path in pathlib.Path(importlib.import_module("stonelay").__file__).parent.glob("*.py")}
+        self.assertEqual(names, set(FUNCTIONS) | {"__init__", "errors", "desk"})
 
 
 if __name__ == "__main__":

@@ -1,6 +1,7 @@
 """The part of Python that the package keeps to, as far as its files show it at a look."""
 
 import ast
+import builtins
 import pathlib
 import re
 import unittest
@@ -32,7 +33,7 @@ WORDS = re.compile(
     r"\b(type|typing|typing_extensions|enum|Enum|IntEnum|StrEnum|Flag|IntFlag|Generic|Protocol|ABC|ABCMeta|"
     r"namedtuple|NamedTuple|TypedDict|TYPE_CHECKING|abstractmethod)\b|dataclass|overload|contextmanager"
 )
-PLAIN = re.compile(r"[A-Za-z][A-Za-z0-9_]*")
+PLAIN = re.compile(r"[A-Za-z][A-Za-z0-9_]*|__(init|eq|repr|str|len)__")
 
 
 def text_faults(text):
@@ -66,6 +67,19 @@ def bound_names(tree):
     return names
 
 
+def local_faults(tree):
+    """Parameters and locals that are called like a class or an import of the file, or like a name of Python's own."""
+    taken = set(dir(builtins))
+    for node in tree.body:
+        if isinstance(node, ast.ClassDef):
+            taken.add(node.name)
+        elif isinstance(node, ast.ImportFrom):
+            taken.update(alias.asname or alias.name for alias in node.names)
+    names = {node.arg for node in ast.walk(tree) if isinstance(node, ast.arg)}
+    names.update(node.id for node in ast.walk(tree) if isinstance(node, ast.Name) and isinstance(node.ctx, ast.Store))
+    return [f"L15 the name {name}" for name in sorted(names & taken)]
+
+
 def node_fault(node):
     if not isinstance(node, NODES):
         return "L6, L7 a form from outside"
@@ -93,6 +107,8 @@ def node_fault(node):
         return "L7 a value from outside"
     if isinstance(node, ast.Constant) and isinstance(node.value, str) and "%" in node.value:
         return "L27 a sign that no text has"
+    if isinstance(node, ast.Assign) and not isinstance(node.targets[0], (ast.Name, ast.Attribute, ast.Subscript)):
+        return "L6 several targets"
     if isinstance(node, ast.Compare) and any(isinstance(sign, (ast.Is, ast.IsNot)) for sign in node.ops):
         if not all(isinstance(side, ast.Constant) and side.value in (None, True, False) for side in node.comparators):
             return "L20 is beside something else"
@@ -105,6 +121,7 @@ def faults_of(text):
     faults = text_faults(text)
     tree = ast.parse(text)
     bound = bound_names(tree)
+    faults.extend(local_faults(tree))
     faults.extend(f"L8, L12, L15 the name {name}" for name in bound if name in OWN_NAMES or not PLAIN.fullmatch(name))
     for node in ast.walk(tree):
         fault = node_fault(node)
@@ -132,7 +149,10 @@ class LanguageTest(unittest.TestCase):
         for text in (
             "import os\n", "from os import path\n", "x = 1.5\n", "x = 3 / 2\n", "x = y = 1\n",
             "def f(*a):\n    return a\n", "def f():\n    yield 1\n", "x = {1: 2 for k in [1]}\n", "x = open\n",
-            "x = 'a'.title()\n", "# a type\n", "x = '\u00e9'\n", "len = 3\n", "a_b = [1 for x in [1] for y in [2]]\n",
+            "x = 'a'.title()\n", "from stonelay.sure import share\n\n\ndef f(share):\n    return share\n",
+            "def f(map):\n    return map\n", "class A:\n    def __add__(self):\n        return 1\n",
+            "def f(x):\n    a, b = x\n    return a + b\n", "# a type\n", "x = '\u00e9'\n", "len = 3\n",
+            "a_b = [1 for x in [1] for y in [2]]\n",
             "_a = 3\n", "def f(x):\n    with x:\n        pass\n", "x = 1\n" * 401, "x = '%'\n", "x = 1 is 2\n",
             "def f():\n" + "    pass\n" * 40, "x = 1" + " " * 120 + "\n", "for x in [1]:\n    pass\nelse:\n    pass\n",
         ):

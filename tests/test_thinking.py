@@ -281,7 +281,7 @@ class HoldsTest(unittest.TestCase):
     def test_what_is_no_closed_cell(self):
         for cell in (
             (0, 1), (0, 4), (0, 5), (-1, 0), (0, -5), (5, 5), (0,), (0, 0, 0), (), "all", "", None, 0, [0, 0],
-            (False, 0), (0, False),
+            (False, 0), (0, False), (0.0, 0),
         ):
             self.check(False, ["?0?#0"], 1, NONE, ([(0, 1)], [cell], []))
             self.check(False, ["?2?#0"], 1, NONE, ([(0, 1)], [], [cell]))
@@ -301,7 +301,7 @@ class HoldsTest(unittest.TestCase):
             [(0, 0)], [(0, 1), (0, 0)], [(0, 0), (0, 1)], [(0, 1), (0, 7)], [(0, 1), (1, 1)], [(0, 1), (-1, 1)],
             [(0, -6)], [(0, 1), (0, -6)], [(0, 1), None], [(0, 1), 0], [0], [None], [[0, 1]], [(0, 1), [0, 3]],
             [(0,)], [(0, 1, 2)], [()], [[]], [(0, True)], [(False, 1)], [(0, 1), (False, 3)], [(0, 1), True],
-            ((0, 1),), ((0, 1), (0, 3)), (0, 1), "all", None, 1, {}, {(0, 1): 1},
+            [(0, 1.0)], ((0, 1),), ((0, 1), (0, 3)), (0, 1), "all", None, 1, {}, {(0, 1): 1},
         ):
             self.check(False, rows, 1, NONE, (things, [(0, 2)], []))
         self.check(True, rows, 1, NONE, ([(0, 1)], [(0, 2)], []))
